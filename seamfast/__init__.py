@@ -1,0 +1,1 @@
+"""Seamfast: captions that hold whatever version of a picture is shown."""
