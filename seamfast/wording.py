@@ -17,6 +17,11 @@ def wider(lines):
     return max(len(lines[0]), len(lines[1]))
 
 
+def difference(lines):
+    """By how many signs two lines differ."""
+    return abs(len(lines[0]) - len(lines[1]))
+
+
 def two_lines(text, width):
     """The text in one or two lines that are not wider than the width."""
     if not is_text(text):
@@ -30,4 +35,4 @@ def two_lines(text, width):
     if len(fitting) == 0:
         raise TooWide(min([len(text)] + [wider(lines) for lines in breaks]))
     # Of several that differ as little, min takes the one told first.
-    return min(fitting, key=lambda lines: abs(len(lines[0]) - len(lines[1])))
+    return min(fitting, key=difference)
