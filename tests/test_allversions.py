@@ -203,6 +203,10 @@ class BoundTest(Case):
         # One more for c, and one for b behind c.
         self.assertEqual(len(AllVersions(more, Book(0, 0), Rules(gap=198))), 1 + 2 * 198 + 1 + 2)
         self.fails(TooMany, "standing", AllVersions, more, Book(0, 0), Rules(gap=199))
+        pieces = plan.pieces + (("d", 8, 9, 1, 1, "on"),)
+        one_more = Plan(plan.reel, pieces, plan.arrows, ("a", "d"), ("b", "d"))
+        self.assertEqual(len(AllVersions(one_more, Book(0, 0), Rules(gap=198))), 1 + 2 * 198 + 1 + 1)
+        self.fails(TooMany, "standing", AllVersions, one_more, Book(0, 0), Rules(gap=199))
 
     def test_whether_or_not_the_rules_are_kept(self):
         plan = quiet_plan()

@@ -77,6 +77,7 @@ class ReelTest(Case):
             self.fails(BadCue, 1, Reel, 8, (good, cue))
             self.fails(BadCue, 1, Reel, 8, (good, cue, None))
         self.fails(BadCue, 0, Reel, 8, ((False, 3, "a", "x"),))
+        self.fails(BadCue, 0, Reel, 8, ((0, True, "a", "x"),))
         self.fails(BadCue, 0, Reel, 8, ((-1, 3, "a", "x"), good))
         for thing in (None, 5, "cues", {}, CUES[0][2], True):
             self.fails(BadCue, -1, Reel, 20, thing)
