@@ -3,16 +3,21 @@
 from seamfast.errors import TooMany
 from seamfast.forms import items_of
 from seamfast.rules import row_breaches
+from seamfast.search import Search
 from seamfast.standings import broken_at_end, gone_on, standing_form
 
 MOST_STANDINGS = 400
 
 
+def names_behind(plan, standing):
+    """The names of the pieces that can follow, ascending; the standing ahead of all pieces is None."""
+    return tuple(sorted(plan.starts)) if standing is None else plan.followers(standing[0])
+
+
 def steps_from(plan, book, rules, standing):
     """For each piece that can follow, ascending, the standing behind it, and whether a rule is broken on the way."""
-    names = sorted(plan.starts) if standing is None else plan.followers(standing[0])
     steps = []
-    for name in names:
+    for name in names_behind(plan, standing):
         behind, words = gone_on(plan, book, rules, standing, name)
         steps.append((behind, len(words) > 0))
     return steps
@@ -42,31 +47,18 @@ def breaks_by_ending(plan, book, rules, standing):
     return standing[0] in plan.ends and len(broken_at_end(plan, book, rules, standing)) > 0
 
 
-def way_to(rows, at):
-    """The way that led to a row of a search, from row to row."""
-    names = []
-    while rows[at][0] is not None:
-        standing, _, at = rows[at]
-        names.append(standing[0])
-    return tuple(names[::-1])
-
-
 def least_broken(plan, book, rules, steps):
     """The least version that does not keep the rules, or None."""
-    # Each row has a standing, whether a rule was broken, and the number of the row ahead of it.
-    rows = [(None, False, 0)]
-    known = {}
+    search = Search()
+    for behind, breaks in steps[None]:
+        search.come_to(behind[0], (behind, breaks), None)
     at = 0
-    while at < len(rows):
-        standing, broken, _ = rows[at]
-        if standing is not None and standing[0] in plan.ends:
-            if broken or breaks_by_ending(plan, book, rules, standing):
-                return way_to(rows, at)
+    while at < len(search.rows):
+        name, (standing, broken), _ = search.rows[at]
+        if name in plan.ends and (broken or breaks_by_ending(plan, book, rules, standing)):
+            return search.way_to(at)
         for behind, breaks in steps[standing]:
-            state = (behind, broken or breaks)
-            if state not in known:
-                known[state] = True
-                rows.append((behind, broken or breaks, at))
+            search.come_to(behind[0], (behind, broken or breaks), at)
         at += 1
     return None
 

@@ -37,6 +37,8 @@ class Course:
         self.carrying = None
         # When the last carried showing of each other cue went off.
         self.last_ends = {}
+        # The showings that were open and are over, as the open one is told.
+        self.overs = []
         self.broken = []
 
     def begin_at(self, standing):
@@ -80,6 +82,7 @@ class Course:
                 return
             if begun - end < self.close:
                 end = begun
+            self.overs.append((last, since, end))
             self.broken.extend(length_words(self.plan, self.rules, last, end - since))
             self.last_ends[last] = end
             if 0 < begun - end < self.gap:

@@ -168,3 +168,32 @@ def seen_sends(plan, row):
                 told.append((begun + edge * factor, cue))
         begun += (end - start) * factor
     return tuple([(cue, moment) for moment, cue in sorted(told)])
+
+
+def rich_plan(dice, most=4):
+    """A plan of a few pieces with many cues and many rings."""
+    while True:
+        length = dice.randint(8, 24)
+        cues = []
+        at = dice.randint(0, 2)
+        while at < length:
+            end = min(length, at + dice.randint(1, 5))
+            words = ["abcdefghij"[:dice.randint(1, 10)] for _ in range(dice.randint(1, 4))]
+            cues.append((at, end, dice.choice(("ann", "bob", "cy")), " ".join(words)))
+            at = end + dice.choice((0, 0, 1, 2))
+        names = "abcdef"[:dice.randint(2, most)]
+        pieces = [random_piece(dice, name, length) for name in names]
+        pairs = [(left, right) for left in names for right in names]
+        arrows = dice.sample(pairs, dice.randint(len(names), min(len(pairs), 3 * len(names))))
+        starts = dice.sample(names, dice.randint(1, 2))
+        ends = dice.sample(names, dice.randint(1, 2))
+        try:
+            return Plan(Reel(length, cues), pieces, arrows, starts, ends)
+        except Unreached:
+            continue
+
+
+def rich_plans(seed, many, most=4):
+    """So many such plans, always the same ones for a seed."""
+    dice = random.Random(seed)
+    return [rich_plan(dice, most) for _ in range(many)]
