@@ -37,6 +37,14 @@ def judged_way(plan, way):
     return names
 
 
+def judged_version(plan, version):
+    """The version as a tuple."""
+    names = judged_way(plan, version)
+    if names[-1] not in plan.ends:
+        raise BadWay(len(names))
+    return names
+
+
 def is_way(plan, row):
     """Whether the row is a way."""
     return wrong_step(plan, judged_row(plan, row)) is None
@@ -53,15 +61,25 @@ def row_length(plan, row):
     return sum([plan.shown_of(name) for name in judged_row(plan, row)])
 
 
-def row_sends(plan, row):
-    """The cues that are sent in the row, with the moments in grains from its beginning."""
+def way_key(way):
+    """By what ways are compared."""
+    return len(way), way
+
+
+def sends_along(plan, names):
+    """The sends of a row of any length that is known to be one."""
     sends = []
     begun = 0
-    for name in judged_row(plan, row):
+    for name in names:
         for cue, moment in plan.sends_of(name):
             sends.append((cue, begun + moment))
         begun += plan.shown_of(name)
     return tuple(sends)
+
+
+def row_sends(plan, row):
+    """The cues that are sent in the row, with the moments in grains from its beginning."""
+    return sends_along(plan, judged_row(plan, row))
 
 
 def names_ahead(plan, lasts, most):

@@ -140,7 +140,7 @@ class LanguageTest(unittest.TestCase):
             above = parents(tree)
             for node in ast.walk(tree):
                 if isinstance(node, ast.Lambda):
-                    self.assertIsInstance(above[node], ast.keyword, (stem, node.lineno))
+                    self.assertIsInstance(above[node], (ast.keyword, ast.Call), (stem, node.lineno))
                 else:
                     self.assertNotIsInstance(node, barred, (stem, getattr(node, "lineno", 0)))
                 if isinstance(node, ast.Compare):
