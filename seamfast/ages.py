@@ -25,11 +25,6 @@ def judge_memory(memory):
         raise BadMemory(memory)
 
 
-def is_older(age, other):
-    """Whether an age is greater than another one; None is greater than all numbers."""
-    return other is not None and (age is None or age > other)
-
-
 class Aging:
     """What a piece does to the age of one speaker."""
 
@@ -68,10 +63,14 @@ class Aging:
             return age
         return age + many if age + many < self.memory else None
 
-    def is_clear(self, age):
-        """Whether all texts of the speaker are clear if the piece begins with an age."""
-        return self.keeps_clear and (self.most is None or (age is not None and age <= self.most))
+    def fails(self, age):
+        """Whether some text of the speaker is not clear if the piece begins with an age."""
+        return not self.keeps_clear or (self.most is not None and (age is None or age > self.most))
 
-    def age_behind(self, age):
+    def state_behind(self, age):
         """The age at the end of the piece if it begins with this one."""
         return self.end if self.is_named else self.older(age, self.many)
+
+    def is_worse(self, age, other):
+        """Whether an age is greater than another one; None is greater than all numbers."""
+        return other is not None and (age is None or age > other)

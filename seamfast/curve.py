@@ -3,7 +3,7 @@
 from seamfast.errors import NoPlace, TooSlow
 from seamfast.forms import fraction, is_within
 from seamfast.greatest import least_pace, ring_time
-from seamfast.readers import greatest_top, judge_room, judged_pace, readings, signs_of
+from seamfast.readers import greatest_top, judge_room, judged_pace, readings, sent_cues, signs_of
 
 
 def room_at(plan, line, pace):
@@ -55,7 +55,8 @@ class Curve:
 
     def __init__(self, plan):
         pace, _ = least_pace(plan)
-        longest = max([0] + [len(plan.reel.cues[cue][3]) for name in plan.names for cue, _ in plan.sends_of(name)])
+        signs = signs_of(plan)
+        longest = max([0] + [signs[cue] for cue in sent_cues(plan)])
         line = line_behind(plan, pace)
         corners = [(pace, room_at(plan, line, pace))]
         lines = [line]

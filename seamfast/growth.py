@@ -4,12 +4,7 @@ from seamfast.curve import Curve
 from seamfast.errors import BadCue
 from seamfast.forms import fraction, is_within
 from seamfast.greatest import rings_at
-from seamfast.readers import greatest_top, judge_room, judged_pace, points_of, readings, signs_of
-
-
-def sent_cues(plan):
-    """The numbers of the cues that are sent in some piece, ascending."""
-    return sorted(set([cue for name in plan.names for cue, _ in plan.sends_of(name)]))
+from seamfast.readers import greatest_top, judge_room, judged_pace, points_of, readings, sent_cues, signs_of
 
 
 def growth(plan, pace, room):

@@ -1,8 +1,8 @@
 """Whether those who hear a text know who speaks."""
 
-from seamfast.ages import Aging, is_older, judge_memory, judged_named
+from seamfast.ages import Aging, judge_memory, judged_named
 from seamfast.forms import is_within, items_of, parts_of
-from seamfast.search import Search
+from seamfast.search import WorstSearch
 from seamfast.ways import judged_row, sends_along, way_key
 
 
@@ -32,45 +32,9 @@ def agings(plan, named, memory, speaker):
     return {name: Aging(plan, name, speaker, named, memory) for name in plan.names}
 
 
-class AgeSearch:
-    """A search for a way on which a text of one speaker is not clear.
-
-    A way is gone on with only if it comes to its last piece with a greater age than all lesser ways:
-    otherwise one of those has a text that is not clear with whatever follows, too.
-    """
-
-    def __init__(self, plan, told):
-        self.plan = plan
-        self.told = told
-        # The greatest age at the end of each piece.
-        self.oldest = {}
-        self.search = Search()
-
-    def go_on(self, names, age, at):
-        """Goes on by each of the pieces; tells the first one in which a text is not clear, or None."""
-        for name in names:
-            aging = self.told[name]
-            if not aging.is_clear(age):
-                return name
-            behind = aging.age_behind(age)
-            if name not in self.oldest or is_older(behind, self.oldest[name]):
-                self.oldest[name] = behind
-                self.search.put(name, behind, at)
-        return None
-
-    def least_unclear(self):
-        """The least way on which a text is not clear, or None."""
-        found = self.go_on(sorted(self.plan.starts), None, None)
-        if found is not None:
-            return (found,)
-        at = 0
-        while at < len(self.search.rows):
-            name, age, _ = self.search.rows[at]
-            found = self.go_on(self.plan.followers(name), age, at)
-            if found is not None:
-                return self.search.way_to(at) + (found,)
-            at += 1
-        return None
+def age_search(plan, named, memory, speaker):
+    """A search for a way on which a text of a speaker is not clear; it begins with the age None."""
+    return WorstSearch(plan, agings(plan, named, memory, speaker))
 
 
 class Known:
@@ -79,8 +43,8 @@ class Known:
     def __init__(self, plan, named, memory):
         kept = judged_named(plan.reel, named)
         judge_memory(memory)
-        searches = [AgeSearch(plan, agings(plan, kept, memory, speaker)) for speaker in plan.reel.speakers]
-        rows = [search.least_unclear() for search in searches]
+        searches = [age_search(plan, kept, memory, speaker) for speaker in plan.reel.speakers]
+        rows = [search.least_way(None) for search in searches]
         self.way = min([row for row in rows if row is not None], key=way_key, default=None)
         self.cue = None
         self.table = None
@@ -90,7 +54,7 @@ class Known:
             self.cue = sends_along(plan, self.way)[number][0]
         else:
             self._rows = tuple([
-                (name, tuple([search.oldest[name] for search in searches])) for name in plan.names
+                (name, tuple([search.worst[name] for search in searches])) for name in plan.names
             ])
             self.table = self._rows
 
@@ -123,7 +87,7 @@ def keeps_to_ages(told, names, ages, known):
     """
     for name in names:
         for aging, age, most in zip(told, ages, known[name]):
-            if not aging[name].is_clear(age) or is_older(aging[name].age_behind(age), most):
+            if aging[name].fails(age) or aging[name].is_worse(aging[name].state_behind(age), most):
                 return False
     return True
 

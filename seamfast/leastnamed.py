@@ -2,9 +2,9 @@
 
 from seamfast.ages import judge_memory, judged_named
 from seamfast.errors import TooMany
-from seamfast.growth import sent_cues
-from seamfast.known import AgeSearch, Known, agings
+from seamfast.known import Known, age_search
 from seamfast.picks import picks
+from seamfast.readers import sent_cues
 
 MOST_SPEAKER_CUES = 8
 
@@ -12,7 +12,7 @@ MOST_SPEAKER_CUES = 8
 def least_of_speaker(plan, speaker, cues, memory):
     """The first of the fewest cues of a speaker with which as the named ones all texts of this speaker are clear."""
     for named in picks(cues):
-        if AgeSearch(plan, agings(plan, named, memory, speaker)).least_unclear() is None:
+        if age_search(plan, named, memory, speaker).least_way(None) is None:
             return named
     return tuple(cues)
 

@@ -29,6 +29,11 @@ def signs_of(plan):
     return [len(cue[3]) for cue in plan.reel.cues]
 
 
+def sent_cues(plan):
+    """The numbers of the cues that are sent in some piece, ascending."""
+    return sorted(set([cue for name in plan.names for cue, _ in plan.sends_of(name)]))
+
+
 class Reading:
     """What a piece does to the lag with which it begins.
 

@@ -26,3 +26,45 @@ class Search:
             name, _, number = self.rows[number]
             names.append(name)
         return tuple(names[::-1])
+
+
+class WorstSearch:
+    """A search for the least way on which something goes wrong, where from a worse state no less goes wrong.
+
+    Told is for each piece what it does: `fails(state)`, `state_behind(state)` and `is_worse(state, other)`. A way
+    is gone on with only if its state is worse than those of all lesser ways to its last piece: otherwise
+    something goes wrong on one of these with whatever follows, too.
+    """
+
+    def __init__(self, plan, told):
+        self.plan = plan
+        self.told = told
+        # The worst state at the end of each piece.
+        self.worst = {}
+        self.search = Search()
+
+    def go_on(self, names, state, at):
+        """Goes on by each of the pieces; tells the first one in which something goes wrong, or None."""
+        for name in names:
+            step = self.told[name]
+            if step.fails(state):
+                return name
+            behind = step.state_behind(state)
+            if name not in self.worst or step.is_worse(behind, self.worst[name]):
+                self.worst[name] = behind
+                self.search.put(name, behind, at)
+        return None
+
+    def least_way(self, begun):
+        """The least way, begun with this state, on which something goes wrong, in its last piece; or None."""
+        wrong = self.go_on(sorted(self.plan.starts), begun, None)
+        if wrong is not None:
+            return (wrong,)
+        at = 0
+        while at < len(self.search.rows):
+            name, state, _ = self.search.rows[at]
+            wrong = self.go_on(self.plan.followers(name), state, at)
+            if wrong is not None:
+                return self.search.way_to(at) + (wrong,)
+            at += 1
+        return None

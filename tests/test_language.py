@@ -171,6 +171,17 @@ class LanguageTest(unittest.TestCase):
                 if isinstance(node, ast.FunctionDef):
                     self.assertEqual(node.decorator_list, [], (stem, node.name))
 
+    def test_no_name_is_a_method_and_an_attribute(self):
+        methods = set()
+        stored = set()
+        for tree in TREES.values():
+            for node in ast.walk(tree):
+                if isinstance(node, ast.ClassDef):
+                    methods |= {part.name for part in node.body if isinstance(part, ast.FunctionDef)}
+                if isinstance(node, ast.Attribute) and isinstance(node.ctx, ast.Store):
+                    stored.add(node.attr)
+        self.assertFalse(methods & stored)
+
     def check_method(self, stem, node):
         if node.name.startswith("__"):
             self.assertIn(node.name.strip("_"), DUNDERS, stem)
