@@ -384,6 +384,14 @@ class JudgeDirectorTest(Case):
             self.assertEqual(self.judged((row,) + self.table), 0)
             self.assertEqual(self.judged((row,) + self.table[1:]), -1)
 
+    def test_the_first_of_several_rows_tells(self):
+        # A row leads to the last one; a greater rank of that one, told first, does not do.
+        greater = self.table[-1][:3] + (7,)
+        self.assertIsNone(self.judged(self.table + (greater,)))
+        told = self.judged((greater,) + self.table)
+        self.assertEqual(told, slowly_judged_director(self.desk, 1, (greater,) + self.table))
+        self.assertIsNotNone(told)
+
     def test_a_beginning(self):
         # A row of a first window, but with a lag, or with fewer coins, is none.
         window, _, _, rank = self.table[0]

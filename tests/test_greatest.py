@@ -141,6 +141,17 @@ class GreatestTest(Case):
         verdict = GreatestLag(plan, (1, 1))
         self.assertEqual((verdict.lag, verdict.way), (68, ("a", "b", "c", "d", "e", "f")))
 
+    def test_a_way_that_passes_pieces_twice(self):
+        # Each of b to e adds a sign; f sends 50 at its end and reads far more ahead of it; the last text is that of g.
+        reel = Reel(300, ((0, 1, "ann", "x" * 3), (150, 151, "ann", "x" * 50), (200, 201, "bob", "x" * 9)))
+        pieces = [(name, 0, 2, 1, 1, "on") for name in "bcde"]
+        pieces += [("a", 250, 251, 1, 1, "on"), ("f", 51, 151, 1, 1, "on"), ("g", 200, 201, 1, 1, "on")]
+        arrows = (("a", "b"), ("b", "c"), ("c", "d"), ("d", "e"), ("e", "f"), ("f", "b"), ("e", "g"))
+        plan = Plan(reel, pieces, arrows, ("a",), ("g",))
+        verdict = GreatestLag(plan, (1, 1))
+        self.assertEqual((verdict.lag, verdict.way), (62, tuple("abcdefbcdeg")))
+        self.assertEqual((verdict.lag, verdict.way), greatest_lag(plan, (1, 1), 16))
+
     def test_errors(self):
         for pace in BAD_PACES:
             self.fails(BadPace, (pace,), GreatestLag, example_plan(), pace)

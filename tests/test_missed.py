@@ -136,6 +136,10 @@ class VerdictTest(Case):
         self.assertIs(bool(NothingMissed(plan, (2000, 1001), 4)), False)
         self.fails(TooMany, "point", NothingMissed, plan, (2000, 1001), 5)
         self.assertIs(bool(NothingMissed(plan, (2, 1), 2000)), True)
+        whole = Plan(plan.reel, plan.pieces[:1], (), ("a",), ("a",))
+        # The grain is 1: 137 * 73 are 10,001 points, 136 * 73 are 9,928.
+        self.fails(TooMany, "point", NothingMissed, whole, (1, 137), 73)
+        self.assertEqual(NothingMissed(whole, (1, 136), 73).table, (("a", 22 * 136 - 10),))
         self.assertIs(bool(NothingMissed(plan, (10 ** 39, 10 ** 39 + 1), 0)), False)
         self.assertEqual(judge_lags(plan, (2000, 1001), 2000, ()), -1)
         self.assertIsNone(judge_lags(plan, (2000, 1001), 2000, (("a", 40000), ("b", 40000), ("c", 30000))))

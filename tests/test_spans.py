@@ -99,6 +99,23 @@ class RingTest(Case):
         spans = Spans(Plan(reel, pieces, arrows[:1] + arrows[2:4] + arrows[5:], ("a",), ("e",)), Book(0, 0))
         self.assertEqual(spans[0], (4, 4, True))
 
+    def test_behind_a_ring_and_behind_a_long_piece(self):
+        # From the long piece l the cue comes to e with far more than a few turns of the ring of r can bring.
+        reel = Reel(2000, ((0, 1000, "ann", "good evening"), (1100, 1110, "bob", "late")))
+        pieces = (
+            ("l", 0, 900, 1, 1, "on"), ("s", 0, 1, 1, 1, "on"), ("r", 1, 2, 1, 1, "on"), ("e", 900, 901, 1, 1, "on"),
+            ("f", 901, 902, 1, 1, "on"), ("g", 902, 903, 1, 1, "on"), ("h", 1100, 1105, 1, 1, "on"),
+            ("i", 1105, 1112, 1, 1, "on"),
+        )
+        arrows = (("l", "e"), ("s", "r"), ("r", "r"), ("r", "e"), ("e", "f"), ("f", "g"), ("g", "h"), ("h", "i"))
+        plan = Plan(reel, pieces, arrows, ("l", "s"), ("i",))
+        spans = Spans(plan, Book(0, 0))
+        # The cue of h and i stays on over two pieces, too, but no ring makes it longer.
+        self.assertEqual(tuple(spans), ((5, None, True), (10, 10, True)))
+        self.assertEqual(spans.shortest(0), ("s", "r", "e", "f", "g", "h", "i"))
+        without = Plan(reel, pieces, arrows[:2] + arrows[3:], ("l", "s"), ("i",))
+        self.assertEqual(tuple(Spans(without, Book(0, 0))), ((5, 903, True), (10, 10, True)))
+
     def test_brought_together_by_close(self):
         reel = Reel(20, ((2, 4, "ann", "good evening"), (12, 14, "bob", "late")))
         pieces = (("a", 0, 6, 1, 1, "on"), ("b", 11, 15, 1, 1, "on"))

@@ -91,6 +91,17 @@ class PartsTest(Case):
         self.assertEqual(parts(tightest), (4, 4, 13, 13, (3, 1)))
         self.assertEqual(tightest.bar("gap"), ("a", "c", "d", "e", "f", "a", "c", "d", "e", "f", "b"))
 
+    def test_a_gap_that_is_least_on_a_way_of_more_pieces(self):
+        # Behind a comes l, which is long, or p, q and r, which are short; then s and u, where the time is told no more.
+        reel = Reel(200, ((0, 4, "ann", "good evening"), (190, 194, "bob", "late")))
+        pieces = [("a", 0, 4, 1, 1, "on"), ("l", 10, 110, 1, 1, "on"), ("t", 190, 194, 1, 1, "on")]
+        pieces += [(name, 120, 121, 1, 1, "on") for name in "pqrsu"]
+        arrows = (("a", "l"), ("a", "p"), ("p", "q"), ("q", "r"), ("r", "s"), ("l", "s"), ("s", "u"), ("u", "t"), ("u", "a"))
+        plan = Plan(reel, pieces, arrows, ("a",), ("t",))
+        tightest = Tightest(plan, Book(0, 0))
+        self.assertEqual((tightest.gap, tightest.again), (5, 5))
+        self.assertEqual(tightest.bar("gap"), ("a", "p", "q", "r", "s", "u", "t"))
+
     def test_pace(self):
         plan = timed_plan((0, 3, "fifteen signs x"), (4, 9, "a"), (10, 17, "thirty five signs are in this text."))
         self.assertEqual(Tightest(plan, Book(0, 0)).pace, (5, 1))
