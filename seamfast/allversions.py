@@ -23,17 +23,21 @@ def steps_from(plan, book, rules, standing):
     return steps
 
 
-def all_steps(plan, book, rules):
-    """The steps from each standing of a way, ordered by least ways, and ahead of all from None, the beginning."""
+def steps_from_all(steps_behind):
+    """The steps from each standing that is led to, ordered by least ways, and ahead of all from None, the beginning.
+
+    Told is, by `steps_behind(standing)`, for each piece that can follow the standing behind, None if it goes wrong,
+    and whether a rule is broken on the way.
+    """
     order = [None]
     known = {None: True}
     steps = {}
     at = 0
     while at < len(order):
-        led = steps_from(plan, book, rules, order[at])
+        led = steps_behind(order[at])
         steps[order[at]] = led
         for behind, _ in led:
-            if behind not in known:
+            if behind is not None and behind not in known:
                 known[behind] = True
                 order.append(behind)
         if len(order) - 1 > MOST_STANDINGS:
@@ -42,25 +46,40 @@ def all_steps(plan, book, rules):
     return steps
 
 
+def all_steps(plan, book, rules):
+    """The steps from each standing of a way."""
+    return steps_from_all(lambda standing: steps_from(plan, book, rules, standing))
+
+
 def breaks_by_ending(plan, book, rules, standing):
     """Whether a version can end with this standing, and breaks a rule by it."""
     return standing[0] in plan.ends and len(broken_at_end(plan, book, rules, standing)) > 0
 
 
-def least_broken(plan, book, rules, steps):
-    """The least version that does not keep the rules, or None."""
+def least_broken(plan, steps, ends_badly):
+    """The least version on which something goes wrong or is broken, on the way or as `ends_badly(standing)` tells.
+
+    It is None if there is none. Told are all steps; behind one that goes wrong, everything is wrong.
+    """
     search = Search()
-    for behind, breaks in steps[None]:
-        search.come_to(behind[0], (behind, breaks), None)
+    for name, (behind, breaks) in zip(names_behind(plan, None), steps[None]):
+        search.come_to(name, (name, behind, breaks), None)
     at = 0
     while at < len(search.rows):
-        name, (standing, broken), _ = search.rows[at]
-        if name in plan.ends and (broken or breaks_by_ending(plan, book, rules, standing)):
+        last, (_, standing, broken), _ = search.rows[at]
+        if last in plan.ends and (standing is None or broken or ends_badly(standing)):
             return search.way_to(at)
-        for behind, breaks in steps[standing]:
-            search.come_to(behind[0], (behind, broken or breaks), at)
+        names = plan.followers(last)
+        led = [(None, True) for _ in names] if standing is None else steps[standing]
+        for name, (behind, breaks) in zip(names, led):
+            search.come_to(name, (name, behind, broken or breaks), at)
         at += 1
     return None
+
+
+def least_version_broken(plan, book, rules, steps):
+    """The least version that does not keep the rules, or None."""
+    return least_broken(plan, steps, lambda standing: breaks_by_ending(plan, book, rules, standing))
 
 
 class AllVersions:
@@ -68,7 +87,7 @@ class AllVersions:
 
     def __init__(self, plan, book, rules):
         steps = all_steps(plan, book, rules)
-        self.version = least_broken(plan, book, rules, steps)
+        self.version = least_version_broken(plan, book, rules, steps)
         self.breach = None
         self.table = None
         self._rows = ()

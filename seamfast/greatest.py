@@ -9,7 +9,8 @@ from seamfast.ways import judged_row
 
 def rings_at(plan, told):
     """The rings of a plan, by the points that each piece adds to the lag of a reader who is never done."""
-    return Rings(plan, {name: told[name].rise for name in plan.names})
+    behind = {name: plan.followers(name) for name in plan.names}
+    return Rings(behind, {name: told[name].rise for name in plan.names})
 
 
 class GreatestLag:

@@ -36,6 +36,13 @@ class LineWords:
         self.taken += 1
         return self.words[self.taken - 1]
 
+    def take_filled(self):
+        """The next word, which must not be empty."""
+        word = self.take_any()
+        if word == "":
+            raise BadLine(self.number, self.taken - 1)
+        return word
+
     def take_name(self):
         """The next word, which must be a name."""
         word = self.take_any()

@@ -1,6 +1,7 @@
 """What showings are carried while a way goes on, piece by piece, and how long they are."""
 
 from seamfast.allversions import all_steps, names_behind
+from seamfast.links import lowered, raised
 from seamfast.rules import Rules
 from seamfast.standings import Course
 
@@ -88,25 +89,3 @@ class Passages:
                 if len(passage.fresh) > 0:
                     rests[standing] = min(passage.grown, rests.get(standing, passage.grown))
         return lowered(rests, [(right, left, grown) for left, right, grown in self.links])
-
-
-def lowered(values, links):
-    """The values, each lowered to what a link adds to another one, as long as this is less."""
-    changed = True
-    while changed:
-        changed = False
-        for left, right, grown in links:
-            if left in values and (right not in values or values[left] + grown < values[right]):
-                values[right] = values[left] + grown
-                changed = True
-    return values
-
-
-def raised(values, links):
-    """Raises the values once to what the links add to others; tells those that were raised."""
-    found = []
-    for left, right, grown in links:
-        if left in values and (right not in values or values[left] + grown > values[right]):
-            values[right] = values[left] + grown
-            found.append(right)
-    return found

@@ -28,6 +28,23 @@ class Search:
         return tuple(names[::-1])
 
 
+def way_search(plan, begun, step):
+    """A search through the states of all ways; `step(state, name)` tells the state behind a piece.
+
+    A state tells its piece, and from the beginning there are finitely many of them.
+    """
+    search = Search()
+    for name in sorted(plan.starts):
+        search.come_to(name, step(begun, name), None)
+    at = 0
+    while at < len(search.rows):
+        last, state, _ = search.rows[at]
+        for name in plan.followers(last):
+            search.come_to(name, step(state, name), at)
+        at += 1
+    return search
+
+
 class WorstSearch:
     """A search for the least way on which something goes wrong, where from a worse state no less goes wrong.
 
