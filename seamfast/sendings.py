@@ -25,8 +25,9 @@ def names_from_behind(plan):
     left = silent_names(plan)
     order = [name for name in plan.names if name not in left]
     while len(left) > 0:
-        order.extend([name for name in left if all([other in order for other in plan.followers(name)])])
-        left = [name for name in left if name not in order]
+        ready = [name for name in left if all([other in order for other in plan.followers(name)])]
+        order.extend(ready)
+        left = [name for name in left if name not in ready]
     return order
 
 

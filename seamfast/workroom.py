@@ -150,7 +150,7 @@ class Trial:
         self.leave()
 
     def leave(self):
-        """Takes up what is held for the block around the one that is left."""
+        # What is held for the block around this one counts again.
         around = self.around
         self.state = around.state
         self.around = around.around

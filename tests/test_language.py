@@ -38,6 +38,8 @@ ATTRIBUTES = set(
     "items keys values pop update append clear extend insert remove reverse setdefault sort args encode decode hex "
     "fromhex format format_map".split()
 )
+# Methods that `__exit__` calls, whose rows are bound as its own are.
+LEFT_BY = {"leave"}
 EAGER = {"range", "zip", "enumerate", "reversed", "map"}
 
 
@@ -97,7 +99,8 @@ class LanguageTest(unittest.TestCase):
         for stem, tree in TREES.items():
             for node in functions(tree):
                 self.assertLessEqual(node.end_lineno - node.lineno + 1, 40, (stem, node.name))
-                self.assertTrue(node.name.startswith("__") or ast.get_docstring(node), (stem, node.name))
+                bare = node.name.startswith("__") or node.name in LEFT_BY
+                self.assertTrue(bare or ast.get_docstring(node), (stem, node.name))
             for node in ast.walk(tree):
                 if isinstance(node, ast.ClassDef):
                     self.assertTrue(ast.get_docstring(node), (stem, node.name))
@@ -199,6 +202,27 @@ class LanguageTest(unittest.TestCase):
         if node.name == "__iter__":
             self.assertRegex(ast.unparse(node.body[-1]), r"^return iter\(self\.\w+\)$")
             self.assertEqual(len(node.body), 1)
+
+    def test_blocks_are_left_by_plain_rows(self):
+        """In `__exit__` and what it calls, names are taken from the object, and attributes are given plain ones."""
+        calls = set()
+        for stem, tree in TREES.items():
+            for node in functions(tree):
+                if node.name != "__exit__" and node.name not in LEFT_BY:
+                    continue
+                taken = []
+                for row in node.body:
+                    text = ast.unparse(row)
+                    if isinstance(row, ast.Expr):
+                        self.assertRegex(text, r"^self\.\w+\(\)$")
+                        calls.add(text[5:-2])
+                    elif isinstance(row.targets[0], ast.Name):
+                        self.assertRegex(text, r"^\w+ = self\.\w+$", stem)
+                        taken.append(row.targets[0].id)
+                    else:
+                        self.assertRegex(text, r"^\w+\.\w+ = \w+\.\w+$", stem)
+                self.assertLessEqual(len(taken), 1)
+        self.assertEqual(calls, LEFT_BY)
 
     def test_names(self):
         own = set()
