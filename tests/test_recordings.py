@@ -169,6 +169,15 @@ class ArgumentsTest(Case):
         self.fails(Silent, "e", Recording, both, (("x", 5),), 0, 0)
 
 
+    def test_silent_goes_ahead_of_too_many(self):
+        reel = Reel(41, [(number, number + 1, "ann", "x") for number in range(40)])
+        pieces = [(name, 0, 40, 1, 1, "on") for name in "abcdefghijk"] + [("l", 40, 41, 1, 1, "on")]
+        names = tuple("abcdefghijkl")
+        self.fails(TooMany, "explanation", Recording, Plan(reel, pieces, (), names, names), (("x", 0),), 0, 0, tuned=True)
+        ring = Plan(reel, pieces, (("l", "l"),), names, names)
+        self.fails(Silent, "l", Recording, ring, (("x", 0),), 0, 0, tuned=True)
+
+
 class ExplanationsTest(Case):
     def test_example(self):
         plan = example_plan()

@@ -238,6 +238,15 @@ class BehindTest(Case):
         # 17 and 2: 34 states with ten entries each.
         self.fails(TooMany, "entry", lambda: eleven + second)
         self.assertEqual(len(eleven + Recut.same(("z",))), 170)
+        # So many names and one state, behind which a second one counts.
+        many = ["a" * (k // 26) + "abcdefghijklmnopqrstuvwxyz"[k % 26] for k in range(67)]
+        for names, size, error in ((many[:50], 4, False), (many, 3, True)):
+            one = Recut([(0, name, 0, ("z",)) for name in names], ())
+            counting = Recut([(k, "z", (k + 1) % size, ()) for k in range(size)], ())
+            if error:
+                self.fails(TooMany, "entry", lambda: one + counting)
+            else:
+                self.assertEqual(len(one + counting), 200)
 
     def test_the_order_of_the_errors(self):
         names = ["abcdefgh"[:k + 1] for k in range(8)] + ["x", "y"]
