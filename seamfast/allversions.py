@@ -67,7 +67,7 @@ def least_broken(plan, steps, ends_badly):
     at = 0
     while at < len(search.rows):
         last, (_, standing, broken), _ = search.rows[at]
-        if last in plan.ends and (standing is None or broken or ends_badly(standing)):
+        if last in plan.ends and (broken or ends_badly(standing)):
             return search.way_to(at)
         names = plan.followers(last)
         led = [(None, True) for _ in names] if standing is None else steps[standing]

@@ -96,6 +96,15 @@ def random_plans(seed, many, most=4):
     return [random_plan(dice, most) for _ in range(many)]
 
 
+def turned(plans):
+    """The plans, every other one of which tells its pieces and arrows the other way round."""
+    found = list(plans)
+    for number in range(0, len(found), 2):
+        plan = found[number]
+        found[number] = Plan(plan.reel, plan.pieces[::-1], plan.arrows[::-1], plan.starts, plan.ends)
+    return found
+
+
 def random_row(dice, plan, most=7):
     """A row of the plan, along arrows or not."""
     row = [dice.choice(plan.names)]

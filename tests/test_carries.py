@@ -7,7 +7,7 @@ from seamfast.plans import Plan
 from seamfast.recuts import Recut
 from seamfast.reels import Reel
 from seamfast.ways import is_version, versions, ways
-from tests.samples import Case, example_plan, random_plans
+from tests.samples import Case, example_plan, random_plans, turned
 from tests.test_recuts import random_recut
 from tests.test_windows import silent_plan
 
@@ -208,7 +208,7 @@ class CarriesTest(Case):
     def test_against_all_versions(self):
         dice = random.Random(431)
         seen = {True: 0, False: 0}
-        for plan in random_plans(431, 500, 3):
+        for plan in turned(random_plans(431, 500, 3)):
             made = twin_of(dice, plan)
             if made is None:
                 continue
@@ -297,7 +297,7 @@ class JudgeTest(Case):
     def test_against_the_words(self):
         dice = random.Random(433)
         seen = set()
-        for plan in random_plans(433, 400, 3):
+        for plan in turned(random_plans(433, 400, 3)):
             made = twin_of(dice, plan)
             if made is None:
                 continue

@@ -7,7 +7,7 @@ from seamfast.errors import BadArrow, BadNumber, BadRate, BadRow
 from seamfast.plans import Plan
 from seamfast.reels import Reel
 from seamfast.ways import ways
-from tests.samples import Case, example_plan, random_plans, random_row, rich_plans
+from tests.samples import Case, example_plan, random_plans, random_row, rich_plans, turned
 from tests.test_greatest import all_rings
 
 RATES = ((1, 1), (1, 2), (1, 1))
@@ -226,7 +226,7 @@ class DriftTest(Case):
     def test_against_all_ways(self):
         dice = random.Random(401)
         seen = {}
-        for plan in random_plans(401, 250, 3) + rich_plans(402, 250, 3):
+        for plan in turned(random_plans(401, 250, 3) + rich_plans(402, 250, 3)):
             rates, meets = random_rates(dice, plan), random_meets(dice, plan)
             drift = Drift(plan, rates, meets)
             parts = least_parts(plan, rates)
@@ -320,7 +320,7 @@ class JudgeTest(Case):
     def test_against_the_words(self):
         dice = random.Random(403)
         seen = set()
-        for plan in random_plans(403, 200, 3) + rich_plans(404, 200, 3):
+        for plan in turned(random_plans(403, 200, 3) + rich_plans(404, 200, 3)):
             rates, meets = random_rates(dice, plan), random_meets(dice, plan)
             table = Drift(plan, rates, meets).table
             if table is None:

@@ -5,6 +5,34 @@ import importlib
 import inspect
 import unittest
 
+from seamfast.allversions import AllVersions
+from seamfast.books import Book
+from seamfast.carries import Carries
+from seamfast.colours import Colours
+from seamfast.curve import Curve
+from seamfast.desks import Desk
+from seamfast.doubts import Doubts
+from seamfast.drifts import Drift
+from seamfast.foresight import Foresight
+from seamfast.greatest import GreatestLag
+from seamfast.house import House
+from seamfast.known import Known
+from seamfast.lengths import Lengths
+from seamfast.mends import Mends
+from seamfast.missed import NothingMissed
+from seamfast.nearness import Nearness
+from seamfast.recordings import Recording
+from seamfast.recutpairs import RecutPair
+from seamfast.recutrules import RecutRules
+from seamfast.recuts import Recut
+from seamfast.rolls import Roll
+from seamfast.rules import Rules
+from seamfast.thinned import Thinned
+from seamfast.tightest import Tightest
+from seamfast.wholly import Wholly
+from seamfast.wishes import ClearWish, RoomWish, RulesWish
+from seamfast.workroom import Workroom
+from tests.samples import example_plan
 from tests.test_language import TREES
 
 # For each module, its functions and classes with their parameters, and for each class its methods with theirs; a
@@ -137,3 +165,46 @@ class InterfaceTest(unittest.TestCase):
 
     def test_all_of_the_package_is_small_enough(self):
         self.assertLessEqual(set(INTERFACE), set(TREES))
+
+
+class AttributesTest(unittest.TestCase):
+    def test_set_on_each_object(self):
+        plan, book, rules = example_plan(), Book(1, 2), Rules(gap=2)
+        desk = Desk.plain(plan, (2, 1), 20)
+        same = Recut.same(plan.names)
+        wish = RoomWish((3, 1), 11)
+        for made, names in (
+            (plan.reel, "length cues speakers naming"), (plan, "reel pieces arrows starts ends grain names WAYS"),
+            (Roll(plan, ("a", "b")), "plan written size extent showing_count send_count is_whole"), (book, "least close"),
+            (rules, "short long gap again pace"), (Thinned(plan, book, rules, ("a", "b"), (1, 1, 1)), "price choice bounds"),
+            (AllVersions(plan, book, rules), "version breach table"), (AllVersions(plan, book, Rules(gap=3)), "version breach table"),
+            (Tightest(plan, book), "short long gap again pace"), (NothingMissed(plan, (2, 1), 9), "way table"),
+            (GreatestLag(plan, (1, 1)), "lag way ring"), (Curve(plan), "corners"),
+            (desk, "plan wordings pace room most income levels full_points"), (Foresight(desk, 0), "desk many director table"),
+            (Wholly(desk), "desk version table"), (Known(plan, (), 1), "way cue table"), (Nearness(plan, 1), "plan within"),
+            (Colours(plan, 1), "fewest colours tree"), (RulesWish(book, rules), "book rules"), (wish, "pace room"),
+            (ClearWish(None), "memory"), (wish + wish, "first second"), (Mends(plan, wish, (("drop", 0, 1),)), "lot price barred"),
+            (Workroom(plan, wish), "present asked deed_count"),
+            (Recording(plan, (("x", 1),), 0, 0), "plan heard least most tuned number explanations sure beginning"),
+            (Doubts(plan, 0), "delay lead loop table"), (Lengths(plan), "unit lag period table"),
+            (Drift(plan, ((1, 1),) * 3), "parts ring gain table"), (same, "entries tails"), (Carries(same, plan, plan), "version table"),
+            (RecutPair(plan, same, same), "version table"), (RecutRules(same, plan, plan, book, rules), "version breach table"),
+            (House(), "deed_count"),
+        ):
+            for name in names.split():
+                self.assertTrue(hasattr(made, name), (made, name))
+
+    def test_truth(self):
+        plan, book = example_plan(), Book(1, 2)
+        desk = Desk.plain(plan, (2, 1), 0)
+        same = Recut.same(plan.names)
+        other = Recut([(0, "a", 0, ())], ((0, ()),))
+        for made in (
+            AllVersions(plan, book, Rules(gap=3)), NothingMissed(plan, (2, 1), 0), GreatestLag(plan, (1, 1)), Foresight(desk, 0), Wholly(desk),
+            Known(plan, (), 1), Mends(plan, RoomWish((1, 1), 0), (("drop", 0, 1),)), Drift(plan, ((1, 1), (1, 1), (1, 2))),
+            Carries(other, plan, plan), RecutPair(plan, same, Recut(same.entries, ((0, ("a",)),))),
+            RecutRules(same, plan, plan, book, Rules(gap=3)),
+        ):
+            self.assertIs(bool(made), False)
+        for made in (AllVersions(plan, book, Rules()), Doubts(plan, 0), Drift(plan, ((1, 1), (1, 2), (1, 1))), Carries(same, plan, plan)):
+            self.assertIs(bool(made), True)

@@ -7,7 +7,7 @@ from seamfast.lengths import Lengths, judge_lengths
 from seamfast.plans import Plan
 from seamfast.reels import Reel
 from seamfast.ways import row_length, versions
-from tests.samples import Case, example_plan, full_plan, random_plans, rich_plans
+from tests.samples import Case, example_plan, full_plan, random_plans, rich_plans, turned
 
 
 def timed_plan(lengths, arrows, starts, ends):
@@ -153,7 +153,7 @@ class TableTest(Case):
             self.assertIs(length in lengths, any(4 + 10 * k + 6 * m == length for k in range(20) for m in range(34)))
 
     def test_just_the_least(self):
-        for plan in random_plans(391, 150, 3) + rich_plans(392, 100, 3):
+        for plan in turned(random_plans(391, 150, 3) + rich_plans(392, 100, 3)):
             try:
                 lengths = Lengths(plan)
             except TooMany:
@@ -182,7 +182,7 @@ class TableTest(Case):
 
     def test_against_laying_out_all_ways(self):
         seen = {}
-        for plan in random_plans(393, 200, 3) + rich_plans(394, 200, 3) + [full_plan(3)]:
+        for plan in turned(random_plans(393, 200, 3) + rich_plans(394, 200, 3) + [full_plan(3)]):
             unit = gcd_of(plan)
             try:
                 lengths = Lengths(plan)
@@ -243,13 +243,14 @@ class VersionTest(Case):
             self.assertIs(thing in lengths, False)
         lengths = Lengths(timed_plan((1,), (("a", "a"),), "a", "a"))
         self.assertIs(True in lengths, False)
+        self.assertIs(-1 in lengths, False)
         self.assertIs(1 in lengths, True)
         self.assertIs(10 ** 39 in lengths, True)
         self.assertIs(0 in lengths, False)
 
     def test_against_all_versions(self):
         seen = set()
-        for plan in random_plans(395, 150, 3) + rich_plans(396, 150, 3):
+        for plan in turned(random_plans(395, 150, 3) + rich_plans(396, 150, 3)):
             try:
                 lengths = Lengths(plan)
             except TooMany:

@@ -8,7 +8,7 @@ from seamfast.errors import BadLot, BadMark, Unreached
 from seamfast.marks import lots, plan_under, price_of
 from seamfast.plans import Plan
 from seamfast.reels import Reel
-from tests.samples import Case, example_plan, random_plans, rich_plans
+from tests.samples import Case, example_plan, random_plans, rich_plans, turned
 
 MARKS = (
     ("drop", 1, 3), ("text", 1, "late", 2), ("bar", "a", "c", 0), ("bar", "a", "b", 5), ("text", 2, "so we go", 0),
@@ -75,7 +75,7 @@ def random_marks(dice, plan, most=6):
 def marked_plans(seed, many):
     """Plans with a cue or an arrow."""
     plans = random_plans(seed, many, 3) + rich_plans(seed + 1, many, 3)
-    return [plan for plan in plans if len(plan.reel) + len(plan.arrows) > 0]
+    return turned([plan for plan in plans if len(plan.reel) + len(plan.arrows) > 0])
 
 
 class MarksTest(Case):
@@ -106,7 +106,7 @@ class MarksTest(Case):
             ("text", False, "x", 1), ("text", 0, "", 1), ("text", 0, " x", 1), ("text", 0, "x%", 1),
             ("text", 0, "x" * 61, 1), ("text", 0, 5, 1), ("text", 0, "x", 1, 1), ("bar", "a", 1), ("bar", "a", "b"),
             ("bar", "b", "a", 1), ("bar", "a", "a", 1), ("bar", "a", "d", 1), ("bar", "a", "b", 101), ("bar", "a", "b", -1),
-            ("bar", "a", "b", False), ("bar", ("a", "b"), 1), ("bar", "a", None, 1), ("bar", 0, 1, 1), ("other", 0, 1),
+            ("bar", "a", "b", False), ("bar", ("a", "b"), 1), ("bar", "a", None, 1), ("bar", 0, 1, 1), ("other", 0, 1), ("cut", "a", "b", 1),
             (None, 0, 1), (("drop",), 0, 1), {}, ("bar", "a", "b", 1, 1), (1, 1, 1), ("text", 0, ("x",), 1),
         ]
         for mark in bad:

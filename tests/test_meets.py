@@ -6,7 +6,7 @@ import random
 from seamfast.drifts import Drift
 from seamfast.errors import BadNumber, BadRate, TooMany
 from seamfast.meets import fewest_meets
-from tests.samples import Case, example_plan, full_plan, random_plans, rich_plans
+from tests.samples import Case, example_plan, full_plan, random_plans, rich_plans, turned
 from tests.test_drifts import RATES, line_plan, random_rates
 
 
@@ -80,7 +80,7 @@ class MeetsTest(Case):
     def test_against_all_lots(self):
         dice = random.Random(411)
         seen = {}
-        for plan in random_plans(411, 200, 3) + rich_plans(412, 200, 3):
+        for plan in turned(random_plans(411, 200, 3) + rich_plans(412, 200, 3)):
             if len(plan.arrows) > 6:
                 continue
             rates = random_rates(dice, plan)

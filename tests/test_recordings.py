@@ -7,7 +7,7 @@ from seamfast.plans import Plan
 from seamfast.recordings import Recording
 from seamfast.reels import Reel
 from seamfast.spells import joined, moved, shared
-from tests.samples import Case, example_plan, random_plans, rich_plans
+from tests.samples import Case, example_plan, random_plans, rich_plans, turned
 
 BAD_DELAYS = (-1, 10001, True, False, None, "1", 1.0, (1,), 10 ** 39)
 
@@ -41,7 +41,7 @@ def heard_plans(seed, many, most=3):
         plan = Plan(Reel(plan.reel.length, cues), plan.pieces, plan.arrows, plan.starts, plan.ends)
         if silent_piece(plan) is None and any(plan.sends_of(name) for name in plan.names):
             found.append(plan)
-    return found
+    return turned(found)
 
 
 def sent(plan, row):

@@ -6,7 +6,7 @@ from seamfast.errors import Stuck, TooMany
 from seamfast.recutpairs import RecutPair, judge_pair
 from seamfast.recuts import Recut
 from seamfast.ways import versions, ways
-from tests.samples import Case, example_plan, random_plans
+from tests.samples import Case, example_plan, random_plans, turned
 from tests.test_carries import lettered_plan, recut_of
 from tests.test_recuts import random_recut
 
@@ -155,7 +155,7 @@ class StuckTest(Case):
     def test_against_all_versions(self):
         dice = random.Random(441)
         seen = set()
-        for plan in random_plans(441, 300, 3):
+        for plan in turned(random_plans(441, 300, 3)):
             first, second = [random_recut(dice, plan.names, "xy", 2, dice.choice((0.9, 1))) for _ in range(2)]
             stuck = [[version for version in versions(plan, 8) if recut(version) is None][:1] for recut in (first, second)]
             if stuck[0] or stuck[1]:
@@ -300,7 +300,7 @@ class PairTest(Case):
     def test_against_all_versions(self):
         dice = random.Random(443)
         seen = {True: 0, False: 0}
-        for plan in random_plans(443, 500, 3):
+        for plan in turned(random_plans(443, 500, 3)):
             first, second = random_pair(dice, plan)
             other = [version for version in versions(plan, 7) if first(version) != second(version)]
             try:
@@ -380,6 +380,14 @@ class JudgeTest(Case):
             self.assertEqual(self.judged((row,) + self.TABLE), 0, row)
             self.assertEqual(self.judged((row,) + self.TABLE[1:]), -1, row)
 
+    def test_a_row_without_the_form_goes_ahead_of_the_one_behind(self):
+        silent = recut_of("0a0 0b0", "0")
+        good = (("a", 0, 0, BOTH_EVEN), ("b", 0, 0, BOTH_EVEN))
+        for ahead, behind in (((0, ("X",)), (0, ("X",))), ((2, ("x",)), (1, ("x",))), ((-1, ("x",)), (1, ("x",))), ((0, ("x",)),) * 2):
+            table = good + (("a", 0, 0, ahead), ("b", 0, 0, behind))
+            told = 3 if ahead == (0, ("x",)) else 2
+            self.assertEqual(judge_pair(self.PLAN, silent, silent, table), told)
+
     def test_rows_that_are_never_reached(self):
         # Names of no plan may be ahead, too.
         self.assertEqual(self.judged(self.TABLE + (("a", 1, 1, (0, ("w",))),)), 3)
@@ -403,7 +411,7 @@ class JudgeTest(Case):
     def test_against_the_words(self):
         dice = random.Random(445)
         seen = set()
-        for plan in random_plans(445, 300, 3):
+        for plan in turned(random_plans(445, 300, 3)):
             first, second = random_pair(dice, plan)
             try:
                 table = RecutPair(plan, first, second).table

@@ -12,7 +12,7 @@ from seamfast.recuts import Recut
 from seamfast.rules import Rules, breaches
 from seamfast.standings import broken_at_end, gone_on
 from seamfast.ways import versions, ways
-from tests.samples import Case, example_plan, random_plans, rich_plans
+from tests.samples import Case, example_plan, random_plans, rich_plans, turned
 from tests.test_allversions import gentle_rules, has_form
 from tests.test_carries import recut_of
 from tests.test_recutpairs import put_out
@@ -223,7 +223,7 @@ class VerdictTest(Case):
     def test_against_all_versions(self):
         dice = random.Random(451)
         seen = {}
-        plans = random_plans(451, 500, 3) + rich_plans(452, 300, 3)
+        plans = turned(random_plans(451, 500, 3) + rich_plans(452, 300, 3))
         for plan in plans:
             other = dice.choice(plans)
             book, rules = Book(dice.randint(0, 2), dice.randint(0, 3)), gentle_rules(dice)
@@ -343,7 +343,7 @@ class JudgeTest(Case):
     def test_against_the_words(self):
         dice = random.Random(455)
         seen = set()
-        plans = random_plans(455, 300, 3) + rich_plans(456, 100, 3)
+        plans = turned(random_plans(455, 300, 3) + rich_plans(456, 100, 3))
         for plan in plans:
             other = dice.choice(plans)
             book, rules = Book(dice.randint(0, 2), dice.randint(0, 3)), gentle_rules(dice)

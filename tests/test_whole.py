@@ -47,7 +47,7 @@ from seamfast.wholly import Wholly
 from seamfast.windows import first_windows, windows, windows_behind, windows_of
 from seamfast.wishes import ClearWish, RoomWish, RulesWish
 from seamfast.workroom import Workroom, rehearsed
-from tests.samples import Case, example_plan, random_plans, rich_plans
+from tests.samples import Case, example_plan, random_plans, rich_plans, turned
 from tests.test_allversions import gentle_rules
 from tests.test_drifts import random_rates
 from tests.test_marks import marked_plans, random_marks
@@ -56,7 +56,7 @@ from tests.test_recordings import heard_plans, sent
 
 def plans_of(seed, many):
     """Plans with few and with many cues."""
-    return random_plans(seed, many, 3) + rich_plans(seed + 1, many, 3)
+    return turned(random_plans(seed, many, 3) + rich_plans(seed + 1, many, 3))
 
 
 def random_book(dice):

@@ -195,6 +195,7 @@ class EqualTest(Case):
         self.assertEqual(one + two, BothWish(*made(1, 2)))
         self.assertNotEqual(one + two, two + one)
         self.assertNotEqual(one + two, one + three)
+        self.assertNotEqual(one + two, three + two)
         self.assertNotEqual((one + two) + three, one + (two + three))
         self.assertEqual((one + two) + three, BothWish(BothWish(*made(1, 2)), ClearWish(3)))
 
