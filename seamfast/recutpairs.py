@@ -69,7 +69,7 @@ class PairSearch:
         for name in names:
             self.search.come_to(name, pair_behind(self.first, self.second, standing, name), at)
 
-    def least_unlike(self):
+    def least_parting(self):
         """The least version of which both do not make the same, or None."""
         self.go_on(None, sorted(self.plan.starts), None)
         begun = 0
@@ -95,7 +95,7 @@ class RecutPair:
         judge_not_stuck(plan, first)
         judge_not_stuck(plan, second)
         pairs = PairSearch(plan, first, second)
-        self.version = pairs.least_unlike()
+        self.version = pairs.least_parting()
         self.table = None
         self._rows = ()
         if self.version is None:
